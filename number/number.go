@@ -1,0 +1,48 @@
+// Package number: numbers, as they are written: see DOC.md.
+package number
+
+import "decant/api"
+
+const (
+	partBits = 52
+	// hiddenBit stands ahead of the part f, unless the exponent e is 0.
+	hiddenBit = 1 << partBits
+	signBit   = 1 << 63
+	// noNumber is the lowest of the bits (without a sign) that are no number. Without signs, bits lie in
+	// the order of what they say: so it is also where numbers that are too great would lie.
+	noNumber = 2047 << partBits
+	// lowestScale is the power of two that the smallest numbers are counted in.
+	lowestScale = -1074
+)
+
+// Parse is the number that a token is, by its bits (P3).
+func Parse(token string) (uint64, api.Errno) {
+	p, ok := cut(token)
+	if !ok {
+		return 0, api.ErrSyntax
+	}
+	bits := p.decimal().nearest()
+	if bits >= noNumber {
+		return 0, api.ErrRange
+	}
+	if p.negative {
+		bits |= signBit
+	}
+	return bits, api.OK
+}
+
+// Print is the shortest token of a number (P4).
+func Print(bits uint64) (string, api.Errno) {
+	magnitude := bits &^ signBit
+	if magnitude >= noNumber {
+		return "", api.ErrArg
+	}
+	text := "0"
+	if magnitude != 0 {
+		text = layOut(shortest(magnitude))
+	}
+	if bits != magnitude {
+		text = "-" + text
+	}
+	return text, api.OK
+}
