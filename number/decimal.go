@@ -9,46 +9,51 @@ const (
 	// is out of range.
 	lowestPoint  = -323
 	highestPoint = 309
+	// rangeBound is 2^1024 - 2^970, which has highestPoint digits: it and all above are out of range.
+	rangeBound = "" +
+		"1797693134862315807937289714053034150799341327100378269361737789804449682927647509466490179775872070" +
+		"9633028641669288791094655554785194040263065748867150582068190890200070838367627385484581771153176447" +
+		"5730270069855571366959622842914819860834936475292719074168444365510704342711559699508093042880177904" +
+		"174497792"
 )
 
 // decimal is what a token says without its sign: 0.DIGITS times 10^point. The first digit is not 0; there
 // is none if it says 0.
 type decimal struct {
-	digits []byte
+	digits []byte // as they are written
 	point  int
 }
 
-// decimal is what the parts say together.
-func (p parts) decimal() decimal {
-	d := decimal{point: len(p.whole) + p.power()}
-	d.add(p.whole)
-	d.add(p.fraction)
-	return d
-}
-
-// add lays digits behind those that are there. Behind enoughDigits of them it only matters whether there is
+// add lays a digit behind those that are there. Behind enoughDigits of them it only matters whether there is
 // one that is not 0, for nothing that the decimal is held against has a digit there: a 1 stands for them all.
-func (d *decimal) add(text string) {
-	for i := range len(text) {
-		digit := text[i] - '0'
-		switch {
-		case len(d.digits) == 0 && digit == 0:
-			d.point--
-		case len(d.digits) < enoughDigits:
-			d.digits = append(d.digits, digit)
-		case len(d.digits) == enoughDigits && digit != 0:
-			d.digits = append(d.digits, 1)
-		}
+func (d *decimal) add(digit byte) {
+	switch {
+	case len(d.digits) == 0 && digit == '0':
+		d.point--
+	case len(d.digits) < enoughDigits:
+		d.digits = append(d.digits, digit)
+	case len(d.digits) == enoughDigits && digit != '0':
+		d.digits = append(d.digits, '1')
 	}
 }
 
-// nearest is the bits of the number that the decimal is read as; noNumber or more, if it is out of range.
-func (d decimal) nearest() uint64 {
+// outOfRange tells whether the decimal is the bound of the range or more.
+func (d decimal) outOfRange() bool {
 	switch {
-	case len(d.digits) == 0 || d.point < lowestPoint:
-		return 0
+	case len(d.digits) == 0 || d.point < highestPoint:
+		return false
 	case d.point > highestPoint:
-		return noNumber
+		return true
+	}
+	// Both begin at the same place, so their digits lie in the order of texts. A beginning of the bound is less
+	// than it, as among texts: the bound's last digit is not 0.
+	return string(d.digits) >= rangeBound
+}
+
+// nearest is the bits of the number that the decimal is read as; it is not out of range.
+func (d decimal) nearest() uint64 {
+	if len(d.digits) == 0 || d.point < lowestPoint {
+		return 0
 	}
 	over, under := d.ratio()
 	return nearestBits(over, under)

@@ -22,14 +22,14 @@ func newNatural(n uint64) *natural {
 	return made
 }
 
-// fromDigits is the number that these digits (0 to 9 each) are, the highest first.
+// fromDigits is the number that these digits are, as they are written.
 func fromDigits(digits []byte) *natural {
 	made := newNatural(0)
 	for group := range slices.Chunk(digits, groupDigits) {
 		unit, value := uint32(1), uint32(0)
 		for _, digit := range group {
 			unit *= 10
-			value = value*10 + uint32(digit)
+			value = value*10 + uint32(digit-'0')
 		}
 		made.timesPlus(unit, value)
 	}

@@ -27,7 +27,7 @@ func wantNatural(t *testing.T, n *natural, want *big.Int) {
 func drawnNatural(r *rand.Rand) *natural {
 	digits := make([]byte, r.Intn(80))
 	for i := range digits {
-		digits[i] = byte(r.Intn(10))
+		digits[i] = '0' + byte(r.Intn(10))
 	}
 	return fromDigits(digits)
 }
@@ -37,12 +37,8 @@ func TestNaturalMade(t *testing.T) {
 		wantNatural(t, newNatural(n), new(big.Int).SetUint64(n))
 	}
 	for _, text := range []string{"", "0", "000000000000", "7", "999999999", "1000000000", "123456789012345678901234567890", "18446744073709551616"} {
-		digits := []byte(text)
-		for i := range digits {
-			digits[i] -= '0'
-		}
 		want, _ := new(big.Int).SetString("0"+text, 10)
-		wantNatural(t, fromDigits(digits), want)
+		wantNatural(t, fromDigits([]byte(text)), want)
 	}
 }
 

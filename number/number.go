@@ -8,8 +8,7 @@ const (
 	// hiddenBit stands ahead of the part f, unless the exponent e is 0.
 	hiddenBit = 1 << partBits
 	signBit   = 1 << 63
-	// noNumber is the lowest of the bits (without a sign) that are no number. Without signs, bits lie in
-	// the order of what they say: so it is also where numbers that are too great would lie.
+	// noNumber is the lowest of the bits (without a sign) that are no number.
 	noNumber = 2047 << partBits
 	// lowestScale is the power of two that the smallest numbers are counted in.
 	lowestScale = -1074
@@ -17,18 +16,13 @@ const (
 
 // Parse is the number that a token is, by its bits (P3).
 func Parse(token string) (uint64, api.Errno) {
-	p, ok := cut(token)
-	if !ok {
-		return 0, api.ErrSyntax
+	var t Token
+	for i := range len(token) {
+		if !t.Next(token[i]) {
+			return 0, api.ErrSyntax
+		}
 	}
-	bits := p.decimal().nearest()
-	if bits >= noNumber {
-		return 0, api.ErrRange
-	}
-	if p.negative {
-		bits |= signBit
-	}
-	return bits, api.OK
+	return t.Value()
 }
 
 // Print is the shortest token of a number (P4).

@@ -192,17 +192,15 @@ func TestLayOutIsExact(t *testing.T) {
 	for power := -340; power <= 310; power++ {
 		for _, digits := range []uint64{1, 12, 12345678901234567} {
 			token := layOut(digits, power)
-			p, ok := cut(token)
-			if !ok {
-				t.Fatalf("layOut(%d, %d) = %q is no token", digits, power, token)
+			var read Token
+			for _, b := range []byte(token) {
+				if !read.Next(b) {
+					t.Fatalf("layOut(%d, %d) = %q is no token", digits, power, token)
+				}
 			}
-			d := p.decimal()
-			said := ""
-			for _, digit := range d.digits {
-				said += string('0' + digit)
-			}
+			d := read.decimal()
 			want := strconv.FormatUint(digits, 10)
-			if strings.TrimRight(said, "0") != want || d.point != len(want)+power {
+			if strings.TrimRight(string(d.digits), "0") != want || d.point != len(want)+power {
 				t.Errorf("layOut(%d, %d) = %q", digits, power, token)
 			}
 		}
