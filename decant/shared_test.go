@@ -189,3 +189,87 @@ func TestP1AnyBytes(t *testing.T) {
 		}
 	}
 }
+
+// TestP2AnswersAreNewMemory: what a caller does with the memory of its items or chunks later changes no text that
+// was written.
+func TestP2AnswersAreNewMemory(t *testing.T) {
+	for _, s := range []string{"a", "text", "é€𝄞", strings.Repeat("x", 1000)} {
+		room := []byte(s)
+		items := []api.Item{obj(1), txt(unsafe.String(&room[0], len(room))), txt(unsafe.String(&room[0], len(room)))}
+		text, _ := Write(items, -1, true)
+		alone, _ := Write(items[1:2], -1, false)
+		clear(room)
+		clear(items)
+		if want := `{"` + s + `":"` + s + `"}`; text != want || alone != `"`+s+`"` {
+			t.Errorf("%q and %q, want %q", text, alone, want)
+		}
+		room = []byte(`"` + s + `"`)
+		chunks := []string{unsafe.String(&room[0], len(room))}
+		result := Format(chunks, 1, -1, false)
+		clear(room)
+		clear(chunks)
+		if result.Text != `"`+s+`"` {
+			t.Errorf("%q, want %q", result.Text, s)
+		}
+	}
+}
+
+// TestP2WrittenAtTheSameTime: the same items and chunks may be handed in by several at the same time.
+func TestP2WrittenAtTheSameTime(t *testing.T) {
+	items := []api.Item{obj(3), txt("b"), arr(2), one, txt("é"), txt("a"), obj(2), txt("d"), null, txt("c"), yes, txt("b"), num(1)}
+	chunks := []string{`{"b":[1,`, `"é"],"a":{"d":null,"c":true},"b`, `":5e-324}`}
+	var all sync.WaitGroup
+	value, _ := treeOf(items)
+	for i := range 72 {
+		indent, sorted := i%18-1, i%4 < 2
+		want := textOf(t, value, indent, sorted)
+		all.Go(func() {
+			text, e := Write(items, indent, sorted)
+			if text != want || e != api.OK {
+				t.Errorf("Write: %q, %d, want %q", text, e, want)
+			}
+			if got := Format(chunks, 2, indent, sorted); got.Text != want || got.E != api.OK {
+				t.Errorf("Format: %+v, want %q", got, want)
+			}
+		})
+	}
+	all.Wait()
+}
+
+// TestP1WriteEnds: great values are written in a time that hangs on what is written alone.
+func TestP1WriteEnds(t *testing.T) {
+	const size = 100000
+	many := append([]api.Item{obj(size)}, slices.Repeat([]api.Item{txt("key"), null}, size)...)
+	wantRight(t, many, 1, true)
+	falling := []api.Item{obj(size)}
+	for i := range size {
+		falling = append(falling, txt(string(rune(0x10ffff-i))), arr(0))
+	}
+	wantRight(t, falling, -1, true)
+	wantRight(t, append([]api.Item{arr(size)}, slices.Repeat([]api.Item{obj(1), txt(""), one}, size)...), 0, true)
+	// Each object has the rest in it, and would be gone through once more for each around it.
+	deep := append(slices.Repeat([]api.Item{obj(2), txt("b"), null, txt("a")}, 999), many...)
+	wantRight(t, deep, -1, true)
+}
+
+// TestP1AnyItems: whatever items come there is an answer, and beside an error nothing.
+func TestP1AnyItems(t *testing.T) {
+	r := rand.New(rand.NewSource(13))
+	numbers := []int{0, 0, 0, 1, 1, 2, 3, -1, 1 << 62, 1<<63 - 1, -1 << 63}
+	for range 50000 {
+		items := make([]api.Item, r.Intn(6))
+		for i := range items {
+			items[i].Kind = r.Intn(9) - 1
+			if r.Intn(2) == 0 {
+				items[i].N = numbers[r.Intn(len(numbers))]
+			}
+			if r.Intn(8) == 0 {
+				items[i].Bits = r.Uint64()
+			}
+			if r.Intn(8) == 0 {
+				items[i].S = string([]byte{byte(r.Intn(256))})
+			}
+		}
+		wantRight(t, items, r.Intn(18)-1, r.Intn(2) == 0)
+	}
+}

@@ -25,12 +25,17 @@ func Parse(token string) (uint64, api.Errno) {
 	return t.Value()
 }
 
+// Is tells whether bits are a number.
+func Is(bits uint64) bool {
+	return bits&^signBit < noNumber
+}
+
 // Print is the shortest token of a number (P4).
 func Print(bits uint64) (string, api.Errno) {
-	magnitude := bits &^ signBit
-	if magnitude >= noNumber {
+	if !Is(bits) {
 		return "", api.ErrArg
 	}
+	magnitude := bits &^ signBit
 	text := "0"
 	if magnitude != 0 {
 		text = layOut(shortest(magnitude))

@@ -126,8 +126,8 @@ func TestP4PowersOfTwo(t *testing.T) {
 func TestP4NoNumber(t *testing.T) {
 	for _, bits := range []uint64{noNumber, noNumber + 1, noNumber | 1<<51, signBit - 1} {
 		for _, b := range []uint64{bits, bits | signBit} {
-			if token, e := Print(b); token != "" || e != api.ErrArg {
-				t.Errorf("Print(%x) = %q, %d, want ErrArg", b, token, e)
+			if token, e := Print(b); token != "" || e != api.ErrArg || Is(b) {
+				t.Errorf("Print(%x) = %q, %d, want ErrArg; Is tells %v", b, token, e, Is(b))
 			}
 		}
 	}
@@ -217,7 +217,7 @@ func TestP1AnyBits(t *testing.T) {
 		}
 		token, e := Print(bits)
 		isNone := bits&noNumber == noNumber
-		if isNone != (e == api.ErrArg) || isNone != (token == "") || !isNone && e != api.OK {
+		if isNone != (e == api.ErrArg) || isNone != (token == "") || !isNone && e != api.OK || isNone == Is(bits) {
 			t.Fatalf("Print(%x) = %q, %d", bits, token, e)
 		}
 	}
