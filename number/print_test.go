@@ -1,6 +1,7 @@
 package number
 
 import (
+	"math"
 	"math/rand"
 	"strconv"
 	"strings"
@@ -158,6 +159,22 @@ func TestP4Best(t *testing.T) {
 	for range 2000 {
 		if n := drawn(r); n != 0 {
 			wantBest(t, n)
+		}
+	}
+}
+
+// TestP11Ordinary: ordinary numbers and those at the ends of the range are read as they were printed.
+func TestP11Ordinary(t *testing.T) {
+	numbers := []uint64{0, 1, 2, 1<<52 - 1, 1 << 52, 1<<52 + 1, greatest - 1, greatest, 0x3fb999999999999a, 0x3fd5555555555555, 0x400921fb54442d18, 0x4340000000000000, 0x444b1ae4d6e2ef4f, 0x444b1ae4d6e2ef50, 0x3eb0c6f7a0b5ed8c, 0x3eb0c6f7a0b5ed8d, 0x3e7ad7f29abcaf48}
+	for n := range 1000 {
+		numbers = append(numbers, math.Float64bits(float64(n)), math.Float64bits(float64(n)/100), math.Float64bits(float64(n)*1e20), math.Float64bits(float64(n)*1e-9))
+	}
+	for _, n := range numbers {
+		for _, bits := range []uint64{n, n | signBit} {
+			token, e := Print(bits)
+			if back, f := Parse(token); back != bits || e != api.OK || f != api.OK || len(token) > 25 {
+				t.Errorf("%x: %q, %d, is read as %x, %d", bits, token, e, back, f)
+			}
 		}
 	}
 }
